@@ -5,6 +5,7 @@ import (
 	"slices"
 
 	"sextant/api"
+	"sextant/words"
 )
 
 // digits: those of all radixes, each at its value.
@@ -21,7 +22,7 @@ func Text(a []uint32, radix int) (string, api.Errno) {
 	if len(a) == 0 {
 		return "0", api.OK
 	}
-	return digitsOf(slices.Clone(a), uint32(radix)), api.OK
+	return digitsOf(a, uint32(radix)), api.OK
 }
 
 // Read: the number that digits are.
@@ -74,13 +75,13 @@ func group(radix uint32) (size int, power uint32) {
 	return size, power
 }
 
-// digitsOf answers the digits of a number that is not 0; the list is its own from now on.
+// digitsOf answers the digits of a number that is not 0.
 func digitsOf(a []uint32, radix uint32) string {
 	size, power := group(radix)
 	var lowestFirst []byte
 	for len(a) > 0 {
-		left := divideByWord(a, power)
-		a = trim(a)
+		var left uint32
+		a, left = words.DivideByWord(a, power)
 		for range size {
 			lowestFirst = append(lowestFirst, digits[left%radix])
 			left /= radix
@@ -121,7 +122,7 @@ func timesPlus(a []uint32, w, more uint32) []uint32 {
 	for i := range len(a) {
 		carry += uint64(a[i]) * uint64(w)
 		a[i] = uint32(carry)
-		carry >>= wordBits
+		carry >>= 32
 	}
 	if carry == 0 {
 		return a

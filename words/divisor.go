@@ -1,31 +1,19 @@
-package nat
+package words
 
-import (
-	"slices"
+import "slices"
 
-	"sextant/api"
-)
-
-// Gcd: the greatest common divisor.
-func Gcd(a, b []uint32) ([]uint32, api.Errno) {
-	if !Sound(a) || !Sound(b) {
-		return nil, api.ErrForm
-	}
-	if order(a, b) < 0 {
+// Divisor: the greatest common divisor of a and b. It goes through Euclid's pairs, each of which has the same common divisors.
+func Divisor(a, b []uint32) []uint32 {
+	if Order(a, b) < 0 {
 		a, b = b, a
 	}
-	return commonDivisor(a, b), api.OK
-}
-
-// commonDivisor goes through Euclid's pairs, each of which has the same common divisors; a is not less than b.
-func commonDivisor(a, b []uint32) []uint32 {
 	for len(b) > 2 {
 		a, b = laterPair(a, b)
 	}
 	if len(b) == 0 {
 		return slices.Clone(a)
 	}
-	_, r := divide(a, b)
+	_, r := Divide(a, b)
 	x, y := short(b), short(r)
 	for y != 0 {
 		x, y = y, x%y
@@ -43,11 +31,11 @@ func laterPair(a, b []uint32) (x, y []uint32) {
 	from := Bits(a) - 2*wordBits
 	w := sureSteps(window(a, from), window(b, from))
 	if w.bOfX == 0 {
-		_, r := divide(a, b)
+		_, r := Divide(a, b)
 		return b, r
 	}
-	x = distance(product(Of(w.aOfX), a), product(Of(w.bOfX), b))
-	y = distance(product(Of(w.aOfY), a), product(Of(w.bOfY), b))
+	x = Difference(Product(Of(w.aOfX), a), Product(Of(w.bOfX), b))
+	y = Difference(Product(Of(w.aOfY), a), Product(Of(w.bOfY), b))
 	return x, y
 }
 
@@ -73,12 +61,4 @@ func window(a []uint32, from int) uint64 {
 	low := uint64(wordAt(a, words+1))<<wordBits | uint64(wordAt(a, words))
 	high := uint64(wordAt(a, words+2))
 	return low>>rest | high<<(2*wordBits-rest)
-}
-
-// distance is how far two numbers are from each other.
-func distance(a, b []uint32) []uint32 {
-	if order(a, b) < 0 {
-		a, b = b, a
-	}
-	return difference(a, b)
 }
