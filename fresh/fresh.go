@@ -1,0 +1,38 @@
+// Package fresh copies data into new memory, for the layers that answer or keep what they were handed.
+package fresh
+
+import (
+	"strings"
+
+	"sextant/api"
+)
+
+// Datum: a sound datum in new memory, texts too, which may be pieces of long ones that would be kept with them.
+func Datum(d api.Datum) api.Datum {
+	return api.Datum{
+		Kind: d.Kind,
+		N:    d.N,
+		Num:  api.Num{Re: fraction(d.Num.Re), Im: fraction(d.Num.Im)},
+		Text: strings.Clone(d.Text),
+		Raw:  list(d.Raw),
+		List: Data(d.List),
+	}
+}
+
+// Data: sound data in new memory, one by one.
+func Data(data []api.Datum) []api.Datum {
+	out := list(data)
+	for i, d := range out {
+		out[i] = Datum(d)
+	}
+	return out
+}
+
+func fraction(r api.Rat) api.Rat {
+	return api.Rat{Neg: r.Neg, Top: list(r.Top), Bot: list(r.Bot)}
+}
+
+// list begins with nil: slices.Clone of a list without items would go on pointing to its room.
+func list[T any](items []T) []T {
+	return append([]T(nil), items...)
+}
