@@ -1,4 +1,4 @@
-// Package fresh copies data into new memory, for the layers that answer or keep what they were handed.
+// Package fresh copies data and texts into new memory, for the layers that answer or keep what they were handed.
 package fresh
 
 import (
@@ -24,6 +24,15 @@ func Data(data []api.Datum) []api.Datum {
 	out := list(data)
 	for i, d := range out {
 		out[i] = Datum(d)
+	}
+	return out
+}
+
+// Texts: texts in new memory, one by one.
+func Texts(texts []string) []string {
+	out := list(texts)
+	for i, text := range out {
+		out[i] = strings.Clone(text)
 	}
 	return out
 }

@@ -3,7 +3,9 @@ package fresh
 import (
 	"bytes"
 	"slices"
+	"strings"
 	"testing"
+	"unsafe"
 
 	"sextant/api"
 )
@@ -61,6 +63,22 @@ func TestData(t *testing.T) {
 	spoil(got[0])
 	if len(got) != 3 || !same(got[1], full()) || !same(shared, full()) || !same(got[2], api.Datum{Kind: api.Nil}) {
 		t.Error("data that shared memory still do")
+	}
+}
+
+func TestTexts(t *testing.T) {
+	long := strings.Repeat("ab", 100)
+	given := []string{long, long[3:5], "", "\xff"}
+	got := Texts(given)
+	if !slices.Equal(got, given) {
+		t.Errorf("Texts: %q", got)
+	}
+	if unsafe.StringData(got[0]) == unsafe.StringData(long) || unsafe.StringData(got[1]) == unsafe.StringData(given[1]) {
+		t.Error("a text is still a piece of another one")
+	}
+	got[0] = "other"
+	if given[0] != long || Texts(given[:0]) != nil || Texts(nil) != nil {
+		t.Error("a list of texts still has the room of another one")
 	}
 }
 
