@@ -1,4 +1,4 @@
-// Package fresh copies data and texts into new memory, for the layers that answer or keep what they were handed.
+// Package fresh copies data, texts and lists into new memory, for the layers that answer or keep what they were handed.
 package fresh
 
 import (
@@ -14,14 +14,14 @@ func Datum(d api.Datum) api.Datum {
 		N:    d.N,
 		Num:  api.Num{Re: fraction(d.Num.Re), Im: fraction(d.Num.Im)},
 		Text: strings.Clone(d.Text),
-		Raw:  list(d.Raw),
+		Raw:  List(d.Raw),
 		List: Data(d.List),
 	}
 }
 
 // Data: sound data in new memory, one by one.
 func Data(data []api.Datum) []api.Datum {
-	out := list(data)
+	out := List(data)
 	for i, d := range out {
 		out[i] = Datum(d)
 	}
@@ -30,7 +30,7 @@ func Data(data []api.Datum) []api.Datum {
 
 // Texts: texts in new memory, one by one.
 func Texts(texts []string) []string {
-	out := list(texts)
+	out := List(texts)
 	for i, text := range out {
 		out[i] = strings.Clone(text)
 	}
@@ -38,10 +38,10 @@ func Texts(texts []string) []string {
 }
 
 func fraction(r api.Rat) api.Rat {
-	return api.Rat{Neg: r.Neg, Top: list(r.Top), Bot: list(r.Bot)}
+	return api.Rat{Neg: r.Neg, Top: List(r.Top), Bot: List(r.Bot)}
 }
 
-// list begins with nil: slices.Clone of a list without items would go on pointing to its room.
-func list[T any](items []T) []T {
+// List: a list in new memory; what its items themselves point to is still shared. It begins with nil: slices.Clone of a list without items would go on pointing to its room.
+func List[T any](items []T) []T {
 	return append([]T(nil), items...)
 }

@@ -82,6 +82,16 @@ func TestTexts(t *testing.T) {
 	}
 }
 
+func TestList(t *testing.T) {
+	given := []bool{true, false, true, true}
+	first, second := List(given[:3]), List(given[:3])
+	first[0], given[1] = false, true
+	_ = append(first, false)
+	if !slices.Equal(second, []bool{true, false, true}) || !slices.Equal(given, []bool{true, true, true, true}) || List(given[:0]) != nil || List[bool](nil) != nil {
+		t.Error("a list still has the room of another one")
+	}
+}
+
 // Room of lists without items is memory, too.
 func TestRoom(t *testing.T) {
 	room := full()
