@@ -241,6 +241,9 @@ func (d *drawn) libs() []api.Library {
 		if d.next(4) == 1 || i > 3 {
 			lib.Version = d.numbers()
 		}
+		if d.next(10) == 1 {
+			lib.Version = append(lib.Version, -1)
+		}
 		if d.seldom() {
 			lib.Name = words("a")
 		}
@@ -333,6 +336,11 @@ func (all tally) order(t *testing.T, d *drawn) {
 	if len(want) > 2 {
 		all["Order of many"]++
 	}
+	for _, at := range want {
+		if slices.ContainsFunc(libs[:at], func(l api.Library) bool { return slices.Equal(l.Name, libs[at].Name) && slices.Contains(l.Version, -1) }) {
+			all["Order past strange"]++
+		}
+	}
 	if e != api.OK {
 		noOrder(t, libs, imports, e)
 	} else {
@@ -362,7 +370,7 @@ func TestDrawn(t *testing.T) {
 	}
 	for _, outcome := range []string{
 		"Read 0", "Read 2", "Read 12", "Version of true", "Version of false", "Version of both", "Names 0", "Names 8", "Names 12", "Names 13", "Merge 0", "Merge 8",
-		"Library 0", "Library 2", "Library 8", "Library 12", "Order 0", "Order 1", "Order 7", "Order 8", "Order 12", "Order 14", "Order of many",
+		"Library 0", "Library 2", "Library 8", "Library 12", "Order 0", "Order 7", "Order 8", "Order 12", "Order 14", "Order of many", "Order past strange",
 	} {
 		if all[outcome] < 20 {
 			t.Errorf("%s was drawn %d times alone", outcome, all[outcome])

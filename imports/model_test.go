@@ -392,10 +392,10 @@ func plainNeeds(libs []api.Library, imports []api.Import, path []int) ([]int, ap
 				continue
 			}
 			fits, e := plainVersion(l.Version, inside.Ref)
-			if e != api.OK {
+			if e == api.ErrForm || e == api.ErrForms {
 				return nil, e
 			}
-			if fits {
+			if fits && e == api.OK {
 				at = k
 			}
 		}

@@ -71,7 +71,11 @@ func (o *ordering) find(i api.Import) (int, api.Errno) {
 		if !slices.Equal(library.Name, inner.Name) {
 			continue
 		}
-		if fits, e := Version(library.Version, inner.Ref); fits || e != api.OK {
+		fits, e := Version(library.Version, inner.Ref)
+		if e == api.ErrArg { // the library is at fault, not the import: a version that is none fits nothing
+			continue
+		}
+		if fits || e != api.OK {
 			return at, e
 		}
 	}

@@ -156,24 +156,66 @@ func TestOrderForms(t *testing.T) {
 	noOrder(t, some, []api.Import{around(1, prefix(library("c", "()"), ""), "", 60000)}, api.ErrForms)
 }
 
-// P18.6: a reference or a version that is none is at fault where they are held against each other.
+// P18.6: a reference that is none is at fault where it is held against a library's version, be that one or not.
 func TestOrderReferences(t *testing.T) {
 	some := libs("(a (1))", "(b) (a (2))", "(c)")
-	for _, bad := range unsound() {
-		noOrder(t, some, []api.Import{{Name: words("a"), Ref: bad}}, api.ErrForm)
-		noOrder(t, some, []api.Import{only(api.Import{Name: words("a"), Ref: list(bad)}, "x")}, api.ErrForm)
-	}
-	for _, bad := range faultyReferences() {
-		noOrder(t, some, []api.Import{{Name: words("a"), Ref: bad}}, api.ErrForms)
-	}
-	for _, v := range faultyVersions() {
+	for _, v := range append(faultyVersions(), []int{1}, nil) {
 		some[0].Version = v
-		noOrder(t, some, sets("(a)"), api.ErrArg)
-		noOrder(t, some, sets("(b)"), api.ErrArg)
-		noOrder(t, some, []api.Import{{Name: words("a"), Ref: one("(x)")}}, api.ErrForms)
+		for _, bad := range unsound() {
+			noOrder(t, some, []api.Import{{Name: words("a"), Ref: bad}}, api.ErrForm)
+			noOrder(t, some, []api.Import{only(api.Import{Name: words("a"), Ref: list(bad)}, "x")}, api.ErrForm)
+		}
+		for _, bad := range faultyReferences() {
+			noOrder(t, some, []api.Import{{Name: words("a"), Ref: bad}}, api.ErrForms)
+		}
 		orders(t, some, sets("(c)"), 2)
 	}
-	orders(t, append(libs("(a)"), some...), sets("(a)"), 0)
+}
+
+// P18.6: a version with a number that no version has fits no reference, not even one that fits all versions, so that its library is passed by.
+func TestOrderStrangeVersions(t *testing.T) {
+	for _, v := range faultyVersions() {
+		some := libs("(a)", "(a (1))", "(b) (a)", "(c)", "(d) (c) (b)")
+		some[0].Version = v
+		for _, text := range []string{"(a)", "(a ())", "(a (and))", "(a (not (or)))", "(a (not (2)))", "(a (not ((and) (and) (and) (and))))", "(a (1))", "(a ((<= 1)))", "(a ((or 1 2)))", "(only (prefix (a) p) px)"} {
+			orders(t, some, sets(text), 1)
+			orders(t, some, sets("(c) "+text), 3, 1)
+			noOrder(t, append(some[:1:1], some[2:]...), sets(text), api.ErrNone)
+			noOrder(t, some[:1], sets(text), api.ErrNone)
+		}
+		for _, text := range []string{"(a (or))", "(a (2))", "(a (not ()))", "(a ((not (and))))"} {
+			noOrder(t, some, sets(text), api.ErrNone)
+			noOrder(t, some[:1], sets(text), api.ErrNone)
+		}
+		orders(t, some, sets("(b)"), 1, 2)
+		orders(t, some, sets("(d) (a)"), 3, 1, 2, 4)
+		orders(t, []api.Library{some[1], some[0]}, sets("(a)"), 0)
+		orders(t, some, sets("(rnrs) (c)"), 3)
+		alone := append(some[:1:1], some[2:]...)
+		noOrder(t, alone, sets("(b)"), api.ErrNone)
+		noOrder(t, alone, sets("(d)"), api.ErrNone)
+		orders(t, alone, sets("(c)"), 2)
+		for _, own := range [][]api.Import{sets("(a)"), sets("(nowhere)"), faultySets()[:1]} { // those of a library that is passed by are not looked at
+			some[0].Imports = own
+			orders(t, some, sets("(d)"), 3, 1, 2, 4)
+		}
+		noOrder(t, append(some, some[0]), sets("(a)"), api.ErrTwice)
+	}
+}
+
+// P18.6: however many are passed by, of the same name or of another one.
+func TestOrderManyStrangeVersions(t *testing.T) {
+	var some []api.Library
+	for _, v := range faultyVersions() {
+		some = append(some, api.Library{Name: words("a"), Version: v}, api.Library{Name: words("a b"), Version: v})
+	}
+	noOrder(t, some, sets("(a)"), api.ErrNone)
+	noOrder(t, some, sets("(a b)"), api.ErrNone)
+	last := len(some)
+	some = append(some, libs("(a (2147483647))", "(a b (0)) (a)", "(a)")...)
+	orders(t, some, sets("(a)"), last)
+	orders(t, some, sets("(a b)"), last, last+1)
+	orders(t, some, sets("(a (not (2147483647))) (a b (not (1)))"), last+2, last, last+1)
 }
 
 // P18.6: what Names asks of a set is not asked here, and fields that a kind does not name are not looked at.
