@@ -112,9 +112,9 @@ func split(f form) ([]form, form) {
 
 // cut: the items of so many of a form's pairs, which it must have, and what stands behind them.
 func cut(f form, count int) (items []form, rest form) {
-	for p, ok := f.(*pair); ok && count > 0; p, ok = f.(*pair) {
+	items = make([]form, 0, count)
+	for p, ok := f.(*pair); ok && len(items) < count; p, ok = f.(*pair) {
 		items, f = append(items, p.first), p.second
-		count--
 	}
 	return items, f
 }
@@ -132,6 +132,13 @@ func pairs(f form) int {
 func listOf(f form) ([]form, bool) {
 	items, last := split(f)
 	return items, isNil(last)
+}
+
+func isList(f form) bool {
+	for p, ok := f.(*pair); ok; p, ok = f.(*pair) {
+		f = p.second
+	}
+	return isNil(f)
 }
 
 func isNil(f form) bool {

@@ -173,6 +173,14 @@ func TestDeepOutcomes(t *testing.T) {
 	}
 }
 
+// P19.3: uses whose outcomes grow till they are too deep or have too many nodes.
+func TestGrowingOutcomes(t *testing.T) {
+	for _, rule := range []string{"(_ a) (m (a))", "(_ a) (m #(a))", "(_ a ...) (m a ... a ...)", "(_ a ...) (m 1 2 3 4 5 6 7 8 9 a ...)", "(_ a) (m (a . a))", "(_ . a) (list (m a . a))", "(_ a) (begin (m (a)))"} {
+		refuses(t, "1 (define-syntax m (syntax-rules () ("+rule+"))) (m 1)", api.ErrLarge, 2)
+		refuses(t, "1 (define-syntax m (syntax-rules () ("+rule+"))) (lambda () (car (m 1)))", api.ErrLarge, 2)
+	}
+}
+
 // P19.3: in an outcome nodes are laid down from the left, so that it hangs on what stands there which error is met first.
 func TestOrderInOutcomes(t *testing.T) {
 	large := vectorDatum(times(one("1"), mostNodes-10)...)

@@ -98,7 +98,7 @@ func (x *expansion) unfold(f form, at *frame) (form, api.Errno) {
 }
 
 func (u *use) outcome(p *pair) (form, api.Errno) {
-	if _, ok := listOf(p); !ok {
+	if !isList(p) {
 		return nil, api.ErrForms
 	}
 	u.uses++

@@ -1,8 +1,6 @@
 package expand
 
 import (
-	"slices"
-
 	"sextant/api"
 	"sextant/equal"
 )
@@ -107,12 +105,14 @@ func (b both) gather(f form, found []match) {
 
 func (r repeated) matches(f form, u *use) bool {
 	count := pairs(f) - r.least
-	if count < 0 {
-		return false
+	for ; count > 0; count-- {
+		p, _ := f.(*pair)
+		if !r.item.matches(p.first, u) {
+			return false
+		}
+		f = p.second
 	}
-	items, rest := cut(f, count)
-	isOther := func(item form) bool { return !r.item.matches(item, u) }
-	return !slices.ContainsFunc(items, isOther) && r.behind.matches(rest, u)
+	return r.behind.matches(f, u) // too few pairs do not match this
 }
 
 func (r repeated) gather(f form, found []match) {

@@ -109,7 +109,7 @@ func (w *filling) repeat(item form, ellipses int, v view, out []form) ([]form, a
 	}
 	slots := w.roundSlots(item, v, nil)
 	count, e := countRounds(slots, v.found)
-	inside := view{found: slices.Clone(v.found)}
+	inside, out := view{found: slices.Clone(v.found)}, slices.Grow(out, count)
 	for i := 0; i < count && e == api.OK; i++ {
 		for _, slot := range slots {
 			outside := v.found[slot]
